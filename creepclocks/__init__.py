@@ -1,0 +1,1 @@
+"""Creepclocks: steps near a fixed place, and the clock that each of them carries."""

@@ -1,0 +1,103 @@
+"""What several test files use: plain polynomials over fractions.Fraction, worked out apart from the package."""
+
+from fractions import Fraction
+
+from creepclocks.rows import Row
+from creepclocks.steps import Step
+
+ANY_VALUES = [None, True, False, 0, 1, -1, 10 ** 60, "", "x", "1", "1/2", (), (1,), (1, 2, 3), (1, 0), (1, -2), (2, 4),
+              (True, 1), (1, True), (0, 2), ("1", 1), (None, 1), [], [1, 2], [(1, 1)], ((1, 1), (1, 2)),
+              [[], [[]]], Row([(1, 1), (0, 1), (0, 1)]), Step([(1, 1), (1, 1)])]
+
+
+def pair(value):
+    """The tuple of an integer, a Fraction, or a string like 1/2."""
+    value = Fraction(value)
+    return (value.numerator, value.denominator)
+
+
+def pairs(*values):
+    return [pair(value) for value in values]
+
+
+def numbers_of(text):
+    """The tuples of a string with numbers between spaces."""
+    return pairs(*text.split())
+
+
+def step(text):
+    return Step(numbers_of(text))
+
+
+def row(text):
+    return Row(numbers_of(text))
+
+
+def fractions_of(numbers):
+    return [Fraction(*number) for number in numbers]
+
+
+def poly(thing):
+    """The list of Fractions at the places 0 to the order, of a row or a step."""
+    numbers = fractions_of(thing.numbers())
+    return [Fraction(0)] * (thing.order + 1 - len(numbers)) + numbers
+
+
+def times(one, other):
+    """The product of two polys, cut at their order."""
+    found = [Fraction(0)] * len(one)
+    for i, a in enumerate(one):
+        for j in range(len(one) - i):
+            found[i + j] += a * other[j]
+    return found
+
+
+def plus(one, other, factor=1):
+    return [a + factor * b for a, b in zip(one, other)]
+
+
+def unit(order, place):
+    return [Fraction(int(at == place)) for at in range(order + 1)]
+
+
+def put_in(outer, inner):
+    """outer(inner(x)) by Horner's rule, cut at the order."""
+    found = [Fraction(0)] * len(outer)
+    for number in reversed(outer):
+        found = times(found, inner)
+        found[0] += number
+    return found
+
+
+def way_back(numbers):
+    """The poly g with f(g(x)) = x, each place found by trying what is missing there."""
+    order = len(numbers) - 1
+    found = [Fraction(0)] * (order + 1)
+    for place in range(1, order + 1):
+        missing = unit(order, 1)[place] - put_in(numbers, found)[place]
+        found[place] = missing / numbers[1]
+    return found
+
+
+def slope_of(numbers):
+    return [place * number for place, number in enumerate(numbers)][1:] + [Fraction(0)]
+
+
+def as_step(numbers):
+    return Step(pairs(*numbers[1:]))
+
+
+def as_row(numbers):
+    return Row(pairs(*numbers))
+
+
+def caught(act, *args, **named):
+    """The error that a call raises, as its class's name and its attributes other than code."""
+    try:
+        act(*args, **named)
+    except (ValueError, ArithmeticError, LookupError) as error:
+        told = {name: value for name, value in vars(error).items() if name != "code"}
+        if error.code != type(error).__name__:
+            raise AssertionError(f"{error!r} has the code {error.code}")
+        return (error.code, told)
+    return None

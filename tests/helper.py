@@ -2,6 +2,7 @@
 
 from fractions import Fraction
 
+from creepclocks.drifts import Drift
 from creepclocks.rows import Row
 from creepclocks.steps import Step
 
@@ -33,12 +34,16 @@ def row(text):
     return Row(numbers_of(text))
 
 
+def drift(text):
+    return Drift(numbers_of(text))
+
+
 def fractions_of(numbers):
     return [Fraction(*number) for number in numbers]
 
 
 def poly(thing):
-    """The list of Fractions at the places 0 to the order, of a row or a step."""
+    """The list of Fractions at the places 0 to the order, of a row, a step or a drift."""
     numbers = fractions_of(thing.numbers())
     return [Fraction(0)] * (thing.order + 1 - len(numbers)) + numbers
 
@@ -89,6 +94,10 @@ def as_step(numbers):
 
 def as_row(numbers):
     return Row(pairs(*numbers))
+
+
+def as_drift(numbers):
+    return Drift(pairs(*numbers[2:]))
 
 
 def caught(act, *args, **named):

@@ -10,6 +10,8 @@ PACKAGE = pathlib.Path(__file__).resolve().parent.parent / "creepclocks"
 BUILTINS = ("len range enumerate zip min max sum abs sorted reversed int str bool list tuple dict set isinstance ord "
             "repr any all divmod property staticmethod classmethod super NotImplemented ValueError IndexError "
             "LookupError ArithmeticError TypeError KeyError").split()
+# A console, and doctest too, leaves its last value as a builtin called _.
+PYTHON_NAMES = [name for name in dir(builtins) if name != "_"]
 LIBRARY = {"math": ("gcd", "lcm", "isqrt", "comb", "perm", "factorial")}
 SPECIAL = ("__init__ __eq__ __repr__ __str__ __len__ __enter__ __exit__ __call__ __iter__ __add__ __sub__ __mul__ "
            "__xor__ __and__ __or__ __neg__ __invert__ __contains__ __lt__ __bool__").split()
@@ -146,7 +148,7 @@ class CodeTest(unittest.TestCase):
     def test_names_are_not_bound_anew(self):
         for name, tree in trees():
             classes = [node.name for node in tree.body if isinstance(node, ast.ClassDef)]
-            barred = set(dir(builtins)) | set(imported_names(tree)) | set(classes)
+            barred = set(PYTHON_NAMES) | set(imported_names(tree)) | set(classes)
             for node in ast.walk(tree):
                 if isinstance(node, ast.FunctionDef):
                     for word in bound_names(node):
@@ -154,12 +156,12 @@ class CodeTest(unittest.TestCase):
                         self.assertFalse(word.startswith("__"))
             for node in tree.body:
                 if isinstance(node, (ast.FunctionDef, ast.ClassDef)):
-                    self.assertNotIn(node.name, dir(builtins))
+                    self.assertNotIn(node.name, PYTHON_NAMES)
 
     def test_builtins(self):
         for name, tree in trees():
             for node in ast.walk(tree):
-                if isinstance(node, ast.Name) and hasattr(builtins, node.id):
+                if isinstance(node, ast.Name) and node.id in PYTHON_NAMES:
                     self.assertIn(node.id, BUILTINS, (name, node.lineno))
 
     def test_called_methods(self):

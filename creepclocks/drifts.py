@@ -145,8 +145,6 @@ def renamed_drift(drift, step):
 
 def joined(first, *others):
     """The drift of the flow of first behind the flows of the others, in order."""
-    for drift in others:
-        check_orders(first, drift)
     step = flow_of(first)
     for drift in others:
         step = step * flow_of(drift)

@@ -1,7 +1,7 @@
 """Rows: polynomials in x from the place 0 on, cut at their order."""
 
 from creepclocks.checks import check_cut, check_number, check_order, check_orders, check_place, checked_numbers
-from creepclocks.errors import DividedByZero, NotOne
+from creepclocks.errors import NotOne
 from creepclocks.ratios import ONE, ZERO, negative_of, quotient_of
 from creepclocks.series import (
     binomial_log, binomial_power, differences_of, dot, least_place, mixed, multiples_of, multiplied, sums_of,
@@ -83,10 +83,8 @@ class Row:
 
 
 def reciprocal(row):
-    """The row whose product with this row is 1."""
+    """The row whose product with this row is 1; raises DividedByZero if there is none."""
     numbers = row.numbers()
-    if numbers[0] == ZERO:
-        raise DividedByZero()
     found = [quotient_of(ONE, numbers[0])]
     for place in range(1, len(numbers)):
         # What the numbers found so far give at this place has to be taken away by the next one.

@@ -134,7 +134,6 @@ def trade(one, other):
 
 def exchange(one, other):
     """The exchange of two steps."""
-    check_orders(one, other)
     return one * other * ~one * ~other
 
 

@@ -30,7 +30,8 @@ class ReadBackTest(unittest.TestCase):
 
     def test_order_24(self):
         numbers = pairs(*[Fraction(k - 12, k + 1) for k in range(25)])
-        for made, reader in ((Row(numbers), read_row), (Step(numbers[1:]), read_step), (Drift(numbers[2:]), read_drift)):
+        for made, reader in ((Row(numbers), read_row), (Step(numbers[1:]), read_step),
+                             (Drift(numbers[2:]), read_drift)):
             self.assertEqual(reader(made.text()), made)
             self.assertEqual(reader(str(made)).text(), made.text())
 
@@ -98,7 +99,8 @@ class RefusedTest(unittest.TestCase):
     def test_empty_string_and_first_words(self):
         self.refused(0, "", " ", "\n", "to", "to 6", "+ x^2 to 6", "- x^2 to 6", "-", "+", "+x^2 to 6", "--x^2 to 6",
                      "-0 to 6", "00 to 6", "y to 6", "X^2 to 6", "x2 to 6", "x^ to 6", "^2 to 6", "6", "*x^2 to 6",
-                     "-", "x^2to 6", "x^2+x^3 to 6", "0.5*x^2 to 6", "(x^2) to 6", "x*2 to 6", "x^2*3 to 6",
+                     "-", "x^2to 6", "x^2+x^3 to 6", "0.5*x^2 to 6", "(x^2) to 6", "x*2 to 6", "2*y^2 to 6", "xx2 to 6",
+                     "xy3 to 6", "2*x_3 to 6", "2*xx3 to 6", "2*23 to 6", "2*x3 to 6", "x^2*3 to 6",
                      "2*3*x^2 to 6", "x*x to 6", "2x^2 to 6", "2**x^2 to 6", "-+x^2 to 6", "+-x^2 to 6",
                      readers=(read_drift,))
         self.refused(0, "", " ", "to", "+ x to 6", "- x to 6", "+x to 6", "--x to 6", "-0 to 6", "-0", "y to 6",
@@ -170,7 +172,8 @@ class RefusedTest(unittest.TestCase):
         self.refused(0, "01 to 6", "-05 to 6", "1/02 to 6", readers=(read_row,))
 
     def test_fractions_not_in_lowest_terms(self):
-        self.refused(0, "2/4*x^2 to 6", "-2/4*x^2 to 6", "3/3*x^2 to 6", "0/5*x^2 to 6", "5/0*x^2 to 6", "10/5*x^2 to 6")
+        self.refused(0, "2/4*x^2 to 6", "-2/4*x^2 to 6", "3/3*x^2 to 6", "0/5*x^2 to 6", "5/0*x^2 to 6",
+                     "10/5*x^2 to 6")
         self.refused(2, "x^2 + 2/4*x^3 to 6", "x^2 - 6/3*x^3 to 6")
         self.refused(2, "x + 2/4*x^2 to 6", readers=(read_row, read_step))
         self.refused(0, "2/4 to 6", "4/2 + x to 6", readers=(read_row,))

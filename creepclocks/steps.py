@@ -86,8 +86,9 @@ class Step:
         return Step(self._numbers[:order])
 
     def gone_on(self, numbers):
-        """The going-on with these further numbers."""
-        return Step(self._numbers + checked_numbers(numbers, self.order))
+        """The going-on with these further numbers, the step itself if there are none."""
+        further = checked_numbers(numbers, self.order)
+        return Step(self._numbers + further) if len(further) > 0 else self
 
     def as_row(self):
         """The row with these numbers, and 0 at the place 0."""

@@ -2,10 +2,10 @@
 
 from creepclocks.checks import check_cut, check_number, check_order, check_orders, check_place, checked_numbers
 from creepclocks.errors import NotOne
-from creepclocks.ratios import ONE, ZERO, negative_of, quotient_of
+from creepclocks.ratios import ONE, ZERO, negative_of
 from creepclocks.series import (
-    binomial_log, binomial_power, differences_of, dot, least_place, mixed, multiples_of, multiplied, sums_of,
-    table_lines,
+    differences_of, least_place, multiples_of, multiplied, reciprocal_of, row_behind, sums_of, table_lines, unit_log,
+    unit_power,
 )
 from creepclocks.texts import numbers_text
 
@@ -47,8 +47,7 @@ class Row:
     def behind(self, step):
         """The row u behind the step f, which is u(f(x))."""
         check_orders(self, step)
-        numbers = self._numbers
-        return Row([numbers[0]] + mixed(numbers[1:], table_lines(step.numbers())))
+        return Row(row_behind(self._numbers, table_lines(step.numbers())))
 
     def text(self):
         """The text of the row."""
@@ -84,34 +83,23 @@ class Row:
 
 def reciprocal(row):
     """The row whose product with this row is 1; raises DividedByZero if there is none."""
-    numbers = row.numbers()
-    found = [quotient_of(ONE, numbers[0])]
-    for place in range(1, len(numbers)):
-        # What the numbers found so far give at this place has to be taken away by the next one.
-        have = dot(found, numbers[place:0:-1])
-        found.append(quotient_of(negative_of(have), numbers[0]))
-    return Row(found)
+    return Row(reciprocal_of(row.numbers()))
 
 
-def rest_powers(row):
-    """The numbers of 1, w, w^2 and so on up to the order, for a row 1 + w."""
-    first, *others = row.numbers()
-    if first != ONE:
-        raise NotOne(first)
-    rest = [ZERO] + others
-    powers = [[ONE] + [ZERO] * row.order]
-    while len(powers) <= row.order:
-        powers.append(multiplied(powers[-1], rest))
-    return powers
+def check_unit_row(row):
+    """Refuses a row that does not begin with 1."""
+    if row.number(0) != ONE:
+        raise NotOne(row.number(0))
 
 
 def row_power(row, t):
     """The row u^t, for a row u that begins with 1."""
-    powers = rest_powers(row)
+    check_unit_row(row)
     check_number(t)
-    return Row(binomial_power(powers, t))
+    return Row(unit_power(row.numbers(), t))
 
 
 def row_log(row):
     """The row log u, for a row u that begins with 1."""
-    return Row(binomial_log(rest_powers(row)))
+    check_unit_row(row)
+    return Row(unit_log(row.numbers()))

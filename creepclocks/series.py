@@ -5,7 +5,7 @@ A series has its numbers from the place 0 on. The lists of steps, and the lines 
 
 from math import lcm
 
-from creepclocks.ratios import ONE, ZERO, difference_of, product_of, quotient_of, ratio
+from creepclocks.ratios import ONE, ZERO, difference_of, negative_of, product_of, quotient_of, ratio
 
 
 def is_zero(numbers):
@@ -76,6 +76,41 @@ def slope(numbers):
     return [product_of((place, 1), numbers[place]) for place in range(1, len(numbers))] + [ZERO]
 
 
+def reciprocal_of(numbers):
+    """The series whose product with this one is 1; raises DividedByZero if its first number is 0."""
+    found = [quotient_of(ONE, numbers[0])]
+    for place in range(1, len(numbers)):
+        # What the numbers found so far give at this place has to be taken away by the next one.
+        have = dot(found, numbers[place:0:-1])
+        found.append(quotient_of(negative_of(have), numbers[0]))
+    return found
+
+
+def log_slopes(numbers):
+    """The numbers of the log of a series that begins with 1, from the place 1 on, each times its place."""
+    found = []
+    for place in range(1, len(numbers)):
+        # The slope of the log times the series is the slope of the series.
+        have = dot(found, numbers[place - 1:0:-1])
+        found.append(difference_of(product_of((place, 1), numbers[place]), have))
+    return found
+
+
+def unit_log(numbers):
+    """The log of a series that begins with 1."""
+    return [ZERO] + [quotient_of(number, (at + 1, 1)) for at, number in enumerate(log_slopes(numbers))]
+
+
+def unit_power(numbers, t):
+    """The t-th power of a series that begins with 1."""
+    slopes = log_slopes(numbers)
+    found = [ONE]
+    for place in range(1, len(numbers)):
+        # The slope of the power is t times the slope of the log times the power.
+        found.append(quotient_of(product_of(t, dot(slopes, found[::-1])), (place, 1)))
+    return found
+
+
 def still_numbers(order):
     """The numbers of the still step."""
     return [ONE] + [ZERO] * (order - 1)
@@ -90,20 +125,29 @@ def table_lines(numbers):
     return [power[1:] for power in powers]
 
 
+def row_behind(numbers, lines):
+    """The series behind the step whose table has these lines."""
+    return [numbers[0]] + mixed(numbers[1:], lines)
+
+
 def put_behind(one, other):
     """The numbers of the step one behind the step other."""
     return mixed(one, table_lines(other))
 
 
+def solved(lines, wanted):
+    """The factors with which the lines, each with zeros ahead of its own place, are mixed to the wanted list."""
+    found = []
+    for at, number in enumerate(wanted):
+        # The factors found so far give what stands at this place without the next one.
+        have = dot(found, [line[at] for line in lines])
+        found.append(quotient_of(difference_of(number, have), lines[at][at]))
+    return found
+
+
 def turned_back(numbers):
     """The numbers of a turnable step turned back."""
-    lines = table_lines(numbers)
-    found = []
-    for at, wanted in enumerate(still_numbers(len(numbers))):
-        # The numbers found so far give what stands at this place without the next one.
-        have = dot(found, [line[at] for line in lines])
-        found.append(quotient_of(difference_of(wanted, have), lines[at][at]))
-    return found
+    return solved(table_lines(numbers), still_numbers(len(numbers)))
 
 
 def done_times(numbers, times):

@@ -1,9 +1,10 @@
 """Steps: maps near the place 0, which they keep, seen to their order."""
 
 from creepclocks.checks import (
-    check_cut, check_number, check_order, check_orders, check_place, check_slow, check_turnable, checked_numbers,
+    check_cut, check_number, check_order, check_orders, check_place, check_slow, check_times, check_turnable,
+    checked_numbers,
 )
-from creepclocks.errors import InvalidPower, InvalidTimes
+from creepclocks.errors import InvalidPower
 from creepclocks.ratios import MINUS_ONE, MOST_POWER, ONE, ZERO, is_between, is_fraction
 from creepclocks.rows import Row
 from creepclocks.series import (
@@ -140,8 +141,7 @@ def exchange(one, other):
 
 def orbit(step, many):
     """The step done 0, 1, .. and many - 1 times, one by one."""
-    if not is_between(many, 0, MOST_POWER):
-        raise InvalidTimes(many)
+    check_times(many, 0, MOST_POWER)
     done = Step.still(step.order)
     for at in range(many):
         if at > 0:

@@ -84,6 +84,61 @@ def way_back(numbers):
     return found
 
 
+def done_times(numbers, n):
+    """A poly done n times, one time after the other."""
+    part = numbers if n >= 0 else way_back(numbers)
+    found = unit(len(numbers) - 1, 1)
+    for _ in range(abs(n)):
+        found = put_in(part, found)
+    return found
+
+
+def renamed_poly(numbers, by):
+    return put_in(put_in(by, numbers), way_back(by))
+
+
+def one_over(numbers):
+    """The series whose product with this one is 1, by long division."""
+    found, left = [], unit(len(numbers) - 1, 0)
+    for place in range(len(numbers)):
+        found.append(left[place] / numbers[0])
+        shifted = [Fraction(0)] * place + numbers
+        left = [a - found[place] * b for a, b in zip(left, shifted)]
+    return found
+
+
+def log_of(numbers):
+    """The log of a series that begins with 1, by the sum w - w^2/2 + w^3/3 - .."""
+    rest = [Fraction(0)] + numbers[1:]
+    found, part = [Fraction(0)] * len(numbers), unit(len(numbers) - 1, 0)
+    for j in range(1, len(numbers)):
+        part = times(part, rest)
+        found = plus(found, part, Fraction((-1) ** (j + 1), j))
+    return found
+
+
+def tally_put_in(tally, numbers):
+    """The dict from places to what stands there in a tally put into a poly, without log(x) and log of the lead.
+
+    The places are those up to the order less the flat and 1, up to which all is known.
+    """
+    order, flat = len(numbers) - 1, tally.flat
+    base = numbers[1:]
+    found = {place: Fraction(0) for place in range(-flat, order - flat)}
+    for at, number in enumerate(fractions_of(tally.numbers())):
+        e = at - flat
+        if e == 0:
+            part = log_of([number / base[0] for number in base])
+        else:
+            part = unit(order - 1, 0)
+            for _ in range(abs(e)):
+                part = times(part, base if e > 0 else one_over(base))
+        for i, factor in enumerate(part):
+            if e + i in found:
+                found[e + i] += number * factor
+    return found
+
+
 def slope_of(numbers):
     return [place * number for place, number in enumerate(numbers)][1:] + [Fraction(0)]
 

@@ -4,18 +4,23 @@ import doctest
 import pathlib
 import unittest
 
+from creepclocks.clocks import along, clock_of, gain, share
 from creepclocks.drifts import drift_of, flow_of, time_between
 from creepclocks.errors import InvalidText
+from creepclocks.likeness import three_numbers, unlike
+from creepclocks.partings import parted
 from creepclocks.reading import read_row, read_step
 from creepclocks.rows import Row, reciprocal
+from creepclocks.tallies import Tally
 
 
 class DocumentTest(unittest.TestCase):
-    def test_drift_and_power_of_the_first_example(self):
+    def test_first_example(self):
         f = read_step("x + x^2 to 6")
         self.assertEqual(
-            [str(drift_of(f)), str(f.power((1, 2)))],
+            [str(drift_of(f)), str(clock_of(f)), three_numbers(f), str(f.power((1, 2)))],
             ["x^2 - x^3 + 3/2*x^4 - 8/3*x^5 + 31/6*x^6 to 6",
+             "-x^-1 + log(x) - 1/2*x + 1/3*x^2 - 13/36*x^3 from -1 to 3", (1, (1, 1), (1, 1)),
              "x + 1/2*x^2 - 1/4*x^3 + 1/4*x^4 - 5/16*x^5 + 27/64*x^6 to 6"])
         self.assertEqual(flow_of(drift_of(f), (1, 2)), f.power((1, 2)))
         self.assertEqual(time_between(f, f.power((1, 2))), (1, 2))
@@ -24,6 +29,27 @@ class DocumentTest(unittest.TestCase):
         # [15]: x^-2 + x^-1 - 1/2 + 2/3 x - 13/12 x^2, so the drift divided by x^2 has it times x^2.
         drift = drift_of(read_step("x + x^2 to 6"))
         self.assertEqual(str(reciprocal(Row(drift.numbers()))), "1 + x - 1/2*x^2 + 2/3*x^3 - 13/12*x^4 to 4")
+
+    def test_parted(self):
+        paper = parted(read_step("-x + x^2 + x^3 to 6"))
+        self.assertEqual(
+            [str(paper.pure), str(paper.slow), paper.wrong()],
+            ["-x + x^2 - x^3 + 5*x^4 - 13*x^5 + 54*x^6 to 6", "x - 2*x^3 + x^4 - 5*x^5 + 5*x^6 to 6", None])
+
+    def test_summed(self):
+        f = read_step("x + x^2 + x^3 + x^4 + x^5 + x^6 to 6")
+        w = read_row("x to 6")
+        self.assertEqual(
+            [str(along(w, f)), share(w, f), gain(along(w, f), f)],
+            ["log(x) - 1/2*x + 1/12*x^2 from -1 to 3", (1, 1), [(0, 1), (1, 1), (0, 1), (0, 1), (0, 1)]])
+
+    def test_unlike(self):
+        paper = unlike(read_step("x + x^2 to 3"), read_step("x + x^2 + x^3 to 3"))
+        self.assertEqual([paper.question, paper.told], ["log", ((1, 1), (0, 1))])
+
+    def test_texts_of_tallies(self):
+        self.assertEqual(str(Tally(1, [(-1, 1), (1, 1), (-1, 2)])), "-x^-1 + log(x) - 1/2*x from -1 to 1")
+        self.assertEqual(repr(Tally(1, [(-1, 1)] + [(0, 1)] * 4)), "Tally(-x^-1 from -1 to 3)")
 
     def test_last_example(self):
         with self.assertRaises(InvalidText) as held:

@@ -187,6 +187,19 @@ class CodeTest(unittest.TestCase):
                     if method.startswith("__"):
                         self.assertIn(method, SPECIAL)
 
+    def test_no_name_is_a_method_and_an_attribute(self):
+        classes = [part for _, tree in trees() for part in tree.body if isinstance(part, ast.ClassDef)]
+        methods = {node.name for part in classes for node in part.body if isinstance(node, ast.FunctionDef)}
+        stored = {node.attr for part in classes for node in ast.walk(part)
+                  if isinstance(node, ast.Attribute) and isinstance(node.ctx, ast.Store)}
+        self.assertEqual(methods & stored, set())
+
+    def test_stars_in_calls_stand_over_names(self):
+        for name, tree in trees():
+            for node in ast.walk(tree):
+                if isinstance(node, ast.Starred) and isinstance(node.ctx, ast.Load):
+                    self.assertIsInstance(node.value, (ast.Name, ast.Attribute), (name, node.lineno))
+
     def test_plain_functions(self):
         for name, tree in trees():
             for node in ast.walk(tree):

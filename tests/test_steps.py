@@ -6,7 +6,7 @@ from creepclocks import steps
 from creepclocks.rows import Row
 from creepclocks.steps import Step, exchange, first_difference, orbit, trade
 from tests.helper import (
-    ANY_VALUES, as_step, caught, numbers_of, pair, pairs, plus, poly, put_in, row, step, unit, way_back,
+    ANY_VALUES, as_step, caught, done_times, numbers_of, pair, pairs, plus, poly, put_in, row, step, unit, way_back,
 )
 
 NOTHING = "0 0 0 0 0"
@@ -19,15 +19,6 @@ SLOW = [STILL] + CREEPS
 TURNABLE = SLOW + FLIPS + STRETCHES
 EVERY = [NOTHING] + CRUSHES + TURNABLE
 EXPONENTS = [pair(text) for text in ("0", "1", "-1", "3", "-2", "1/2", "-3/2", "7/5", "100")]
-
-
-def done(numbers, n):
-    """A poly done n times, one time after the other."""
-    part = numbers if n >= 0 else way_back(numbers)
-    found = unit(len(numbers) - 1, 1)
-    for _ in range(abs(n)):
-        found = put_in(part, found)
-    return found
 
 
 def by_differences(numbers, t):
@@ -226,7 +217,7 @@ class PowerTest(unittest.TestCase):
                 if n < 0 and one.lead == (0, 1):
                     self.assertEqual(caught(one.power, n), ("CantTurn", {}))
                 else:
-                    self.assertEqual(one.power(n), as_step(done(poly(one), n)), (one, n))
+                    self.assertEqual(one.power(n), as_step(done_times(poly(one), n)), (one, n))
 
     def test_all_integers_from_minus_64_to_64(self):
         for text in ("1 1 0 1/2", "-1 1 0 2", "2 1 -1 0", "-1/2 0 0 3"):
@@ -411,7 +402,7 @@ class TwoStepsTest(unittest.TestCase):
 class OrbitTest(unittest.TestCase):
     def test_items(self):
         for one in map(step, EVERY):
-            self.assertEqual(list(orbit(one, 6)), [as_step(done(poly(one), n)) for n in range(6)])
+            self.assertEqual(list(orbit(one, 6)), [as_step(done_times(poly(one), n)) for n in range(6)])
 
     def test_ends(self):
         self.assertEqual(list(orbit(step("1 1"), 0)), [])

@@ -7,10 +7,13 @@ import unittest
 from creepclocks.clocks import along, clock_of, gain, share
 from creepclocks.drifts import drift_of, flow_of, time_between
 from creepclocks.errors import InvalidText
+from creepclocks.families import Family
+from creepclocks.folds import fold, unfold
 from creepclocks.likeness import three_numbers, unlike
 from creepclocks.partings import parted
 from creepclocks.reading import read_row, read_step
 from creepclocks.rows import Row, reciprocal
+from creepclocks.straight import straight_form
 from creepclocks.tallies import Tally
 
 
@@ -42,6 +45,27 @@ class DocumentTest(unittest.TestCase):
         self.assertEqual(
             [str(along(w, f)), share(w, f), gain(along(w, f), f)],
             ["log(x) - 1/2*x + 1/12*x^2 from -1 to 3", (1, 1), [(0, 1), (1, 1), (0, 1), (0, 1), (0, 1)]])
+
+    def test_straight_forms(self):
+        for text, form, renamer in (
+            ("x + x^2 to 6", "x + x^2 - 1/2*x^4 + 1/6*x^5 + 5/12*x^6 to 6",
+             "x - 1/2*x^3 + 5/6*x^4 - 17/18*x^5 to 6"),
+            ("x^2 + x^3 to 6", "x^2 to 6", "x + 1/2*x^2 + 1/8*x^3 + 7/16*x^4 + 11/128*x^5 to 6"),
+        ):
+            found = straight_form(read_step(text))
+            self.assertEqual([str(found[0]), str(found[1])], [form, renamer])
+
+    def test_family(self):
+        family = Family(read_step("x + 4*x^3 to 5"), read_step("x + x^3 to 5"))
+        h = family.member(lead=(-1, 1), time=(1, 2), top=[(1, 1), (0, 1)])
+        self.assertEqual(
+            [family.size, family.places(), family.scale(), str(h), family.read(h)],
+            [3, [4, 5], (2, 1), "-2*x - 4*x^3 + 2*x^4 + 12*x^5 to 5", ((-1, 1), (1, 2), [(1, 1), (0, 1)])])
+
+    def test_folds(self):
+        f = fold(read_step("x + x^2 to 3"), 2)
+        under, renamer = unfold(f, 2)
+        self.assertEqual([str(f), str(under)], ["x + 1/2*x^3 - 1/8*x^5 to 6", "x + x^2 to 3"])
 
     def test_unlike(self):
         paper = unlike(read_step("x + x^2 to 3"), read_step("x + x^2 + x^3 to 3"))

@@ -1,0 +1,101 @@
+"""Straight forms of steps, and the renamers that lead to them."""
+
+from creepclocks.checks import check_number, check_order
+from creepclocks.clocks import clock_of
+from creepclocks.drifts import Drift, flow_of
+from creepclocks.errors import InvalidFlat, InvalidNumber
+from creepclocks.likeness import three_numbers
+from creepclocks.partings import parted
+from creepclocks.ratios import MINUS_ONE, ONE, ZERO, difference_of, is_between, negative_of, product_of, quotient_of
+from creepclocks.series import multiples_of, multiplied, row_behind, table_lines, unit_log, unit_power
+from creepclocks.steps import Step
+
+
+def plain_creep(order, flat, strength, log):
+    """The plain creep with these three numbers."""
+    check_order(order)
+    if not is_between(flat, 1, order - 1):
+        raise InvalidFlat(flat)
+    check_number(strength)
+    if strength == ZERO:
+        raise InvalidNumber(strength)
+    if order > 2 * flat:
+        check_number(log)
+    elif log is not None:
+        raise InvalidNumber(log)
+    # The drift is a geometric series from the place flat + 1 on, in steps of flat places.
+    factor = ZERO if log is None else negative_of(product_of(strength, log))
+    number = strength
+    drift = [ZERO] * (order - 1)
+    for at in range(flat - 1, order - 1, flat):
+        drift[at] = number
+        number = product_of(number, factor)
+    return flow_of(Drift(drift))
+
+
+def alike_plain(creep):
+    """The plain creep with the three numbers of a creep."""
+    flat, strength, log = three_numbers(creep)
+    return plain_creep(creep.order, flat, strength, log)
+
+
+def creep_renamer(creep):
+    """The own renamer of a creep."""
+    # The clock of the plain creep put into the renamer is the clock of the creep and a constant. With x q for the
+    # renamer and u for q^-flat this says: u + strength log x^flat log(u) is the clock divided by its first number, but
+    # for the number of the log, whose place takes the constant.
+    flat = creep.flat
+    clock = clock_of(creep)
+    known = multiples_of(clock.numbers(), quotient_of(ONE, clock.number(-flat)))
+    found = known[:flat]
+    if clock.log is not None:
+        # With this constant the renamer has 0 at the place flat + 1.
+        missing = unit_power(found + [ZERO], (-1, flat))[flat]
+        found.append(product_of((flat, 1), missing))
+        factor = product_of(creep.strength, clock.log)
+        for at in range(flat + 1, len(known)):
+            found.append(difference_of(known[at], product_of(factor, unit_log(found)[at - flat])))
+    return Step(unit_power(found, (-1, flat)) + [ZERO] * flat)
+
+
+def crush_renamer(crush):
+    """The own renamer of a crush."""
+    # With x q for the renamer, and a x^height g for the crush, q^height is g times q behind the crush.
+    height = crush.height
+    lines = table_lines(crush.numbers())
+    g = multiples_of(crush.numbers()[height - 1:], quotient_of(ONE, crush.strength))
+    many = len(g)
+    found = [ONE] + [ZERO] * (many - 1)
+    right = 1
+    while right < many:
+        further = row_behind(found, lines)[:many]
+        found = unit_power(multiplied(g, further), (1, height))
+        # Behind the crush, the first place that is not right yet is raised to its multiple by the height.
+        right = right * height
+    return Step(found + [ZERO] * (height - 1))
+
+
+def straight_flip(flip):
+    """The pair of the straight form and the own renamer of a flip."""
+    paper = parted(flip)
+    turn = Step.scaling(MINUS_ONE, flip.order)
+    if paper.slow.kind == "still":
+        return (turn, paper.straightener)
+    plain = alike_plain(paper.slow)
+    renamer = creep_renamer(paper.slow.renamed(paper.straightener))
+    return (turn * plain, renamer * paper.straightener)
+
+
+def straight_form(step):
+    """The pair of the straight form and the own renamer of any step."""
+    if step.kind == "creep":
+        return (alike_plain(step), creep_renamer(step))
+    if step.kind == "flip":
+        return straight_flip(step)
+    if step.kind == "crush":
+        form = [ZERO] * step.order
+        form[step.height - 1] = step.strength
+        return (Step(form), crush_renamer(step))
+    if step.kind == "stretch":
+        return (Step.scaling(step.lead, step.order), parted(step).straightener)
+    return (step, Step.still(step.order))

@@ -1,8 +1,8 @@
 """Folds: slow steps with one place of x^m for each place of a lower step."""
 
 from creepclocks.checks import MOST_TIMES, check_creep, check_order, check_slow, check_times
+from creepclocks.clocks import clock_of
 from creepclocks.errors import NotFolded
-from creepclocks.likeness import three_numbers
 from creepclocks.ratios import ZERO, product_of, quotient_of
 from creepclocks.series import unit_power
 from creepclocks.steps import Step
@@ -30,7 +30,7 @@ def unfold(step, times):
     if step.flat % times != 0:
         raise NotFolded(step.flat)
     many = (times, 1)
-    flat, strength, log = three_numbers(step)
-    under_log = None if log is None else quotient_of(log, many)
-    under = plain_creep(step.order // times, flat // times, product_of(strength, many), under_log)
-    return (under, creep_renamer(step))
+    clock = clock_of(step)
+    log = None if clock.log is None else quotient_of(clock.log, many)
+    under = plain_creep(step.order // times, step.flat // times, product_of(step.strength, many), log)
+    return (under, creep_renamer(step, clock))

@@ -87,9 +87,7 @@ class Roots:
         return ~renamer * bare * form.power((1, self.times)) * renamer
 
     def __contains__(self, x):
-        if not isinstance(x, Step) or x.order != self.step.order:
-            return False
-        return x.power(self.times) == self.step
+        return isinstance(x, Step) and x.power(self.times) == self.step
 
     def __repr__(self):
         return f"Roots({self.times} times)"

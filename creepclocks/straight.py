@@ -4,7 +4,6 @@ from creepclocks.checks import check_number, check_order
 from creepclocks.clocks import clock_of
 from creepclocks.drifts import Drift, flow_of
 from creepclocks.errors import InvalidFlat, InvalidNumber
-from creepclocks.likeness import three_numbers
 from creepclocks.partings import parted
 from creepclocks.ratios import MINUS_ONE, ONE, ZERO, difference_of, is_between, negative_of, product_of, quotient_of
 from creepclocks.series import multiples_of, multiplied, row_behind, table_lines, unit_log, unit_power
@@ -33,19 +32,12 @@ def plain_creep(order, flat, strength, log):
     return flow_of(Drift(drift))
 
 
-def alike_plain(creep):
-    """The plain creep with the three numbers of a creep."""
-    flat, strength, log = three_numbers(creep)
-    return plain_creep(creep.order, flat, strength, log)
-
-
-def creep_renamer(creep):
-    """The own renamer of a creep."""
+def creep_renamer(creep, clock):
+    """The own renamer of a creep with this clock."""
     # The clock of the plain creep put into the renamer is the clock of the creep and a constant. With x q for the
     # renamer and u for q^-flat this says: u + strength log x^flat log(u) is the clock divided by its first number, but
     # for the number of the log, whose place takes the constant.
     flat = creep.flat
-    clock = clock_of(creep)
     known = multiples_of(clock.numbers(), quotient_of(ONE, clock.number(-flat)))
     found = known[:flat]
     if clock.log is not None:
@@ -56,6 +48,12 @@ def creep_renamer(creep):
         for at in range(flat + 1, len(known)):
             found.append(difference_of(known[at], product_of(factor, unit_log(found)[at - flat])))
     return Step(unit_power(found, (-1, flat)) + [ZERO] * flat)
+
+
+def straight_creep(creep):
+    """The pair of the straight form and the own renamer of a creep."""
+    clock = clock_of(creep)
+    return (plain_creep(creep.order, creep.flat, creep.strength, clock.log), creep_renamer(creep, clock))
 
 
 def crush_renamer(crush):
@@ -81,21 +79,26 @@ def straight_flip(flip):
     turn = Step.scaling(MINUS_ONE, flip.order)
     if paper.slow.kind == "still":
         return (turn, paper.straightener)
-    plain = alike_plain(paper.slow)
-    renamer = creep_renamer(paper.slow.renamed(paper.straightener))
+    # The straightener has the lead 1, so the slow part keeps its three numbers.
+    plain, renamer = straight_creep(paper.slow.renamed(paper.straightener))
     return (turn * plain, renamer * paper.straightener)
+
+
+def straight_crush(crush):
+    """The pair of the straight form and the own renamer of a crush."""
+    form = [ZERO] * crush.order
+    form[crush.height - 1] = crush.strength
+    return (Step(form), crush_renamer(crush))
 
 
 def straight_form(step):
     """The pair of the straight form and the own renamer of any step."""
     if step.kind == "creep":
-        return (alike_plain(step), creep_renamer(step))
+        return straight_creep(step)
     if step.kind == "flip":
         return straight_flip(step)
     if step.kind == "crush":
-        form = [ZERO] * step.order
-        form[step.height - 1] = step.strength
-        return (Step(form), crush_renamer(step))
+        return straight_crush(step)
     if step.kind == "stretch":
         return (Step.scaling(step.lead, step.order), parted(step).straightener)
     return (step, Step.still(step.order))

@@ -164,6 +164,7 @@ class UnfoldTest(unittest.TestCase):
     def test_not_folded(self):
         # The order is looked at first, and its quotient too, and then the flat.
         for text, many, value in (("1 1", 2, 2), ("1 0 1", 2, 3), ("1 0 1", 3, 3), ("1 1 1", 3, 3), ("1 1 1 1", 3, 4),
+                                  ("1 0 1 0 0", 2, 5), ("1 1 0 0 0", 2, 5), ("1 0 0 1 1 1 1", 3, 7),
                                   ("1 0 0 0 1", 4, 5), ("1 0 0 0 0 1", 6, 6), ("1 0 1 0 1 1", 12, 6),
                                   ("1 1 1 1", 2, 1), ("1 0 1 1 1 1", 3, 2), ("1 0 0 1 1 1", 2, 3),
                                   ("1 0 1 0 0 0 0 0", 4, 2), ("1 0 0 0 0 1", 2, 5), ("1 0 0 0 0 1", 3, 5)):

@@ -248,6 +248,7 @@ class UnlikePaperTest(unittest.TestCase):
         self.assertIsNone(self.wrong("1 1 0", "2 1 0", "lead", ((1, 1), (2, 1))))
         self.assertIsNone(self.wrong("1 1 0", "2 1 0", "flat", (1, None)))
         self.assertIsNone(self.wrong("1 1 0", "2 1 0", "strength", ((1, 1), None)))
+        self.assertIsNone(self.wrong("2 1 0", "1 1 0", "strength", (None, (1, 1))))
         self.assertIsNone(self.wrong("0 1 0", "1 0 0", "height", (2, None)))
 
     def test_agreeing_strengths(self):

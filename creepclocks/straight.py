@@ -35,8 +35,8 @@ def plain_creep(order, flat, strength, log):
 def creep_renamer(creep, clock):
     """The own renamer of a creep with this clock."""
     # The clock of the plain creep put into the renamer is the clock of the creep and a constant. With x q for the
-    # renamer and u for q^-flat this says: u + strength log x^flat log(u) is the clock divided by its first number, but
-    # for the number of the log, whose place takes the constant.
+    # renamer, u for q^-flat, a for the strength and r for the log number, this says that u + a r x^flat log(u) is
+    # x^flat times the clock, divided by its first number; the constant stands where the number of the log stood.
     flat = creep.flat
     known = multiples_of(clock.numbers(), quotient_of(ONE, clock.number(-flat)))
     found = known[:flat]
@@ -68,7 +68,7 @@ def crush_renamer(crush):
     while right < many:
         further = row_behind(found, lines)[:many]
         found = unit_power(multiplied(g, further), (1, height))
-        # Behind the crush, the first place that is not right yet is raised to its multiple by the height.
+        # What is not right yet begins at so many times its place when it is put behind the crush.
         right = right * height
     return Step(found + [ZERO] * (height - 1))
 

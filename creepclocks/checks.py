@@ -98,6 +98,13 @@ def check_slow(step):
         raise NotSlow(step.lead)
 
 
+def check_slow_of(order, step):
+    """Refuses a step of another order, and one that is not slow."""
+    if step.order != order:
+        raise UnlikeOrders(order, step.order)
+    check_slow(step)
+
+
 def check_creep(step):
     check_slow(step)
     if step.kind == "still":

@@ -2,10 +2,10 @@
 
 from creepclocks.checks import check_number, check_orders, check_place, check_slow, check_turnable, checked_numbers
 from creepclocks.errors import IsStill, NotAFlow
-from creepclocks.ratios import ONE, ZERO, negative_of, product_of, quotient_of
+from creepclocks.ratios import ZERO, negative_of, quotient_of
 from creepclocks.rows import Row
 from creepclocks.series import (
-    binomial_log, differences, differences_of, is_zero, least_place, mixed, multiples_of, multiplied, slope,
+    binomial_log, differences, differences_of, flowed, least_place, mixed, moved_parts, multiples_of, multiplied, slope,
     still_numbers, sums_of, table_lines, turned_back,
 )
 from creepclocks.steps import Step, first_difference
@@ -86,25 +86,10 @@ def drift_of(step):
     return Drift(binomial_log(found)[1:])
 
 
-def flow_parts(drift):
-    """The numbers, from the place 0 on, of x, v, L(v)/2!, L(L(v))/3! and so on, up to the last that is not 0."""
-    field = series_of(drift)
-    found = [[ZERO] + still_numbers(drift.order)]
-    part = multiplied(field, slope(found[0]))
-    while not is_zero(part):
-        found.append(part)
-        part = multiples_of(multiplied(field, slope(part)), (1, len(found)))
-    return found
-
-
 def flow_of(drift, t=(1, 1)):
     """The flow of a drift for a fraction t, which is a slow step."""
     check_number(t)
-    parts = flow_parts(drift)
-    factors = [ONE]
-    while len(factors) < len(parts):
-        factors.append(product_of(factors[-1], t))
-    return Step(mixed(factors, parts)[1:])
+    return Step(flowed([ZERO] + still_numbers(drift.order), series_of(drift), t)[1:])
 
 
 def polynomial(numbers):
@@ -117,7 +102,7 @@ def polynomial(numbers):
 
 def flow_polynomials(drift):
     """The list of the polynomials in t of the numbers of the flow at the places 1 to the order."""
-    parts = flow_parts(drift)
+    parts = moved_parts([ZERO] + still_numbers(drift.order), series_of(drift))
     return [polynomial([part[place] for part in parts]) for place in range(1, drift.order + 1)]
 
 

@@ -76,6 +76,28 @@ def slope(numbers):
     return [product_of((place, 1), numbers[place]) for place in range(1, len(numbers))] + [ZERO]
 
 
+def moved_parts(numbers, field):
+    """The list of u, L(u), L(L(u))/2!, L(L(L(u)))/3! and so on for a series u, up to the last that is not 0.
+
+    L of a series is its slope times the field, which has the numbers of a drift.
+    """
+    found = [numbers]
+    part = multiplied(field, slope(numbers))
+    while not is_zero(part):
+        found.append(part)
+        part = multiples_of(multiplied(field, slope(part)), (1, len(found)))
+    return found
+
+
+def flowed(numbers, field, t):
+    """A series behind the flow for t of the drift that the field has."""
+    parts = moved_parts(numbers, field)
+    factors = [ONE]
+    while len(factors) < len(parts):
+        factors.append(product_of(factors[-1], t))
+    return mixed(factors, parts)
+
+
 def reciprocal_of(numbers):
     """The series whose product with this one is 1; raises DividedByZero if its first number is 0."""
     found = [quotient_of(ONE, numbers[0])]

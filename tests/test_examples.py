@@ -5,14 +5,17 @@ import pathlib
 import unittest
 
 from creepclocks.clocks import along, clock_of, gain, share
+from creepclocks.crews import Crew
 from creepclocks.drifts import drift_of, flow_of, time_between
 from creepclocks.errors import InvalidText
 from creepclocks.families import Family
+from creepclocks.farrows import far_of
 from creepclocks.folds import fold, unfold
 from creepclocks.likeness import three_numbers, unlike
 from creepclocks.partings import parted
 from creepclocks.reading import read_row, read_step
 from creepclocks.rows import Row, reciprocal
+from creepclocks.solving import solve
 from creepclocks.straight import straight_form
 from creepclocks.tallies import Tally
 
@@ -66,6 +69,26 @@ class DocumentTest(unittest.TestCase):
         f = fold(read_step("x + x^2 to 3"), 2)
         under, renamer = unfold(f, 2)
         self.assertEqual([str(f), str(under)], ["x + 1/2*x^3 - 1/8*x^5 to 6", "x + x^2 to 3"])
+
+    def test_far_row(self):
+        self.assertEqual(
+            far_of(read_step("x - x^2 to 5")).polynomials(),
+            [[(1, 1)], [(0, 1), (1, 1)], [(1, 2), (1, 1), (1, 1)], [(5, 6), (5, 2), (5, 2), (1, 1)]])
+
+    def test_crew(self):
+        crew = Crew(6, read_step("x + x^3 to 6"), read_step("x + x^4 to 6"))
+        paper = crew.bar(read_step("x + x^5 to 6"))
+        self.assertEqual(
+            [crew.names(), [str(v) for v in crew.basis()], crew.recipe(read_step("x + x^6 to 6")), paper.place,
+             paper.weights()],
+            [[("step", 0), ("step", 1), ("bracket", 1, 0)], ["x^3 - 3/2*x^5 to 6", "x^4 to 6", "x^6 to 6"],
+             [(0, 1), (0, 1), (-1, 1)], 5, [(0, 1), (3, 2), (0, 1), (1, 1), (0, 1)]])
+
+    def test_solve(self):
+        words = [[("a", (1, 1)), ("g", (1, 1)), ("a", (1, 1)), ("t", (-1, 1))]]
+        given = {"g": read_step("x + x^3 to 5"), "t": read_step("x + x^2 + x^3 + x^4 + x^5 to 5")}
+        found = solve(words, unknown=["a"], order=5, given=given)
+        self.assertEqual(str(found["a"]), "x + 1/2*x^2 - 1/4*x^3 - 1/2*x^4 + 11/16*x^5 to 5")
 
     def test_unlike(self):
         paper = unlike(read_step("x + x^2 to 3"), read_step("x + x^2 + x^3 to 3"))

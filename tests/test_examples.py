@@ -6,12 +6,14 @@ import unittest
 
 from creepclocks.clocks import along, clock_of, gain, share
 from creepclocks.crews import Crew
+from creepclocks.desk import Desk
 from creepclocks.drifts import drift_of, flow_of, time_between
 from creepclocks.errors import InvalidText
 from creepclocks.families import Family
 from creepclocks.farrows import far_of
 from creepclocks.folds import fold, unfold
 from creepclocks.likeness import three_numbers, unlike
+from creepclocks.outlooks import outlook
 from creepclocks.partings import parted
 from creepclocks.reading import read_row, read_step
 from creepclocks.rows import Row, reciprocal
@@ -91,8 +93,17 @@ class DocumentTest(unittest.TestCase):
         self.assertEqual(str(found["a"]), "x + 1/2*x^2 - 1/4*x^3 - 1/2*x^4 + 11/16*x^5 to 5")
 
     def test_unlike(self):
-        paper = unlike(read_step("x + x^2 to 3"), read_step("x + x^2 + x^3 to 3"))
-        self.assertEqual([paper.question, paper.told], ["log", ((1, 1), (0, 1))])
+        f, g = read_step("x + x^2 to 3"), read_step("x + x^2 + x^3 to 3")
+        paper = unlike(f, g)
+        self.assertEqual([outlook(f.cut(2), g.cut(2)), outlook(f, g), paper.question, paper.told],
+                         ["open", "never", "log", ((1, 1), (0, 1))])
+
+    def test_desk(self):
+        desk = Desk(order=4)
+        self.assertEqual(
+            [desk("put f x + x^2 to 4"), desk("power g f 1/2"), desk("show g"), desk("alike f g"), desk("span f g"),
+             desk("clock h")],
+            ["done", "done", "x + 1/2*x^2 - 1/4*x^3 + 1/4*x^4 to 4", "log", "1", "error UnknownName"])
 
     def test_texts_of_tallies(self):
         self.assertEqual(str(Tally(1, [(-1, 1), (1, 1), (-1, 2)])), "-x^-1 + log(x) - 1/2*x from -1 to 1")

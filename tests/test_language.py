@@ -19,7 +19,7 @@ METHODS = ("append clear copy count endswith extend find get index insert isdigi
            "remove replace reverse rfind rpartition rsplit setdefault split splitlines startswith strip update upper "
            "values bit_length").split()
 WORDS = "typing enum dataclass namedtuple register elements mro law _wall".split()
-REFUSED = (ast.Global, ast.AsyncFunctionDef, ast.Await, ast.GeneratorExp, ast.Try, ast.Match, ast.Div, ast.Set)
+REFUSED = (ast.Global, ast.AsyncFunctionDef, ast.Await, ast.GeneratorExp, ast.Match, ast.Div, ast.Set)
 PLAIN = (ast.Constant, ast.Tuple, ast.List, ast.Dict, ast.UnaryOp, ast.USub, ast.Load)
 
 
@@ -128,7 +128,12 @@ class CodeTest(unittest.TestCase):
                     self.assertIsInstance(node.value.value, str)
                 elif isinstance(node, ast.Assign):
                     self.assertEqual(len(node.targets), 1)
-                    self.assertTrue(all(isinstance(part, PLAIN) for part in ast.walk(node.value)), name)
+                    above = [part.name for part in tree.body[:at] if isinstance(part, ast.FunctionDef)]
+                    for part in ast.walk(node.value):
+                        if isinstance(part, ast.Name):
+                            self.assertIn(part.id, above, name)
+                        else:
+                            self.assertIsInstance(part, PLAIN, name)
                 else:
                     self.assertIsInstance(node, (ast.ImportFrom, ast.FunctionDef, ast.ClassDef))
 
@@ -144,6 +149,20 @@ class CodeTest(unittest.TestCase):
                     self.assertIsInstance(node.value, ast.Constant)
                 if isinstance(node, ast.Compare) and isinstance(node.ops[0], (ast.Is, ast.IsNot)):
                     self.assertIsInstance(node.comparators[0], ast.Constant)
+
+    def test_handlers(self):
+        own = [part.name for part in dict(trees())["errors.py"].body if isinstance(part, ast.ClassDef)]
+        for name, tree in trees():
+            for node in ast.walk(tree):
+                if not isinstance(node, ast.Try):
+                    continue
+                self.assertEqual(node.orelse, [])
+                for handler in node.handlers:
+                    for part in handler.type.elts if isinstance(handler.type, ast.Tuple) else [handler.type]:
+                        self.assertIn(part.id, own, name)
+                for part in node.finalbody:
+                    self.assertIsInstance(part, ast.Assign, name)
+                    self.assertIsInstance(part.value, ast.Constant, name)
 
     def test_names_are_not_bound_anew(self):
         for name, tree in trees():

@@ -46,7 +46,8 @@ class WordTest(unittest.TestCase):
                 self.assertIs(is_word([("a", value)]), False, value)
                 self.assertIs(is_word([(value, (1, 1))]), value == "x", value)
         for value in (word("a " * 25), [["a", (1, 1)]], [("a", [1, 1])], [("a", (1, 1), 1)], [("a",)], ["a"],
-                      ("a", (1, 1)), word("a") + [None], [None] + word("a"), [("a", 1)], [("a", (2, 4))], {"a": (1, 1)}):
+                      ("a", (1, 1)), word("a") + [None], [None] + word("a"), [("a", 1)], [("a", (2, 4))],
+                      {"a": (1, 1)}):
             self.assertIs(is_word(value), False, value)
 
 

@@ -9,6 +9,7 @@ from creepclocks.steps import Step
 # In the order in which they are told.
 QUESTIONS_SEEN = ("lead", "kind", "height", "flat", "strength", "log")
 UNSETTLED_KINDS = ("nothing", "still")
+LOGGED_KINDS = ("creep", "flip")
 
 
 def settled_by(numbers):
@@ -19,6 +20,13 @@ def settled_by(numbers):
     if step.kind in UNSETTLED_KINDS:
         answers["kind"] = None
     return {question: answers[question] for question in QUESTIONS_SEEN if answers[question] is not None}
+
+
+def is_told(settled):
+    """Whether all is settled that can be settled about a step."""
+    if settled.get("kind") in LOGGED_KINDS:
+        return "log" in settled
+    return "kind" in settled
 
 
 class Seen:
@@ -37,11 +45,11 @@ class Seen:
             raise TooMany(HIGHEST_ORDER)
         numbers = self._numbers + [number]
         settled = dict(self._settled)
-        found = []
-        for question, value in settled_by(numbers).items():
-            if question not in settled:
-                settled[question] = value
-                found.append(question)
+        # The numbers behind the last answer are not looked at, since this takes long.
+        answers = {} if is_told(settled) else settled_by(numbers)
+        found = [question for question in answers if question not in settled]
+        for question in found:
+            settled[question] = answers[question]
         self._take(numbers, settled)
         return found
 

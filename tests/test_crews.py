@@ -295,7 +295,7 @@ class AskedTest(unittest.TestCase):
     def test_returned_lists_are_new(self):
         crew = crew_of(GROUPS[4])
         for act in (crew.steps, crew.makers, crew.names, crew.basis, crew.layers):
-            before = act()
+            before = list(act())
             act().clear()
             self.assertEqual(act(), before)
         crew.layers()[0].clear()

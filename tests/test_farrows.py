@@ -118,6 +118,16 @@ def clock_less_n(far, clock):
     return found
 
 
+def changed_rows(far):
+    """The far rows that differ from one with the flat 1 in a single number."""
+    found = []
+    for at in range(1, len(far)):
+        for j in range(at + 1):
+            grid = grid_sum(grid_of(far.polynomials()), {(at + 1, j): 1})
+            found.append(Far(far.flat, far.strength, polynomials_of(grid, len(far))))
+    return found
+
+
 class FarOfTest(unittest.TestCase):
     def test_document(self):
         self.assertEqual(far_of(read_step("x - x^2 to 5")).polynomials(),
@@ -131,15 +141,8 @@ class FarOfTest(unittest.TestCase):
 
     def test_no_other_row_does(self):
         f = step("1 2 0 1 -1 1/3")
-        y = far_of(f)
-        for at in range(1, len(y)):
-            for j in range(at + 1):
-                numbers = y.polynomials()
-                numbers[at] = numbers[at] + [(0, 1)] * (at + 1 - len(numbers[at]))
-                numbers[at][j] = pair(Fraction(*numbers[at][j]) + 1)
-                if numbers[at][-1] == (0, 1):
-                    numbers[at] = numbers[at][:-1]
-                self.assertNotEqual(clock_less_n(Far(1, (2, 1), numbers), clock_of(f)), {})
+        for other in changed_rows(far_of(f)):
+            self.assertNotEqual(clock_less_n(other, clock_of(f)), {})
 
     def test_known(self):
         # x/(1 + x) leads from 1/n to 1/(n + 1).
@@ -227,16 +230,8 @@ class CreepOfFarTest(unittest.TestCase):
                 self.assertEqual(creep_of_far(far=y.moved_on(b)), f)
 
     def test_not_far(self):
-        f = step("1 2 0 1 -1 1/3")
-        y = far_of(f)
-        for at in range(1, len(y)):
-            for j in range(at + 1):
-                numbers = y.polynomials()
-                numbers[at] = numbers[at] + [(0, 1)] * (at + 1 - len(numbers[at]))
-                numbers[at][j] = pair(Fraction(*numbers[at][j]) + 1)
-                if numbers[at][-1] == (0, 1):
-                    numbers[at] = numbers[at][:-1]
-                self.check(Far(1, (2, 1), numbers))
+        for other in changed_rows(far_of(step("1 2 0 1 -1 1/3"))):
+            self.check(other)
 
     def test_first_place(self):
         y = Far(1, (1, 1), [[(1, 1)], numbers_of("0 5")])

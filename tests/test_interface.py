@@ -66,8 +66,9 @@ ERRORS = {
     "CreepError": "InvalidNumber(value) InvalidFraction(at) InvalidOrder(value) OrderTooLow(have, wanted) "
                   "UnlikeOrders(one, other) InvalidPlace(value) InvalidPower(value) InvalidTimes(value) "
                   "InvalidText(at) InvalidTable(at) CantTurn() NotSlow(first) IsStill(have) NotOne(first) "
-                  "NotUnit(line, place) NotATable(line, place) NotAFlow(place) InvalidFlat(value) NotAClock() UnlikeFlats(one, other) "
-                  "NotAlike(paper) InvalidLead(value) InvalidTime(value) InvalidTop(at) NotInFamily(place) NoFlips() "
+                  "NotUnit(line, place) NotATable(line, place) NotAFlow(place) InvalidFlat(value) NotAClock() "
+                  "UnlikeFlats(one, other) NotAlike(paper) InvalidLead(value) InvalidTime(value) InvalidTop(at) "
+                  "NotInFamily(place) NoFlips() "
                   "NotFolded(value) InvalidFar(at) NotFar(place) NotLed(first) NotInCrew(paper) InCrew() "
                   "InvalidName(value) InvalidNames(at) InvalidWord(at) SameName(name) NotOpen() InvalidStep() "
                   "InvalidPaper(at) InvalidDeed(at) InvalidLine(line) TooMany(most) Solved()",

@@ -171,8 +171,10 @@ class SolverTest(unittest.TestCase):
         solver.unknown().clear()
         solver.numbers("a").clear()
         solver.advance().clear()
-        solver.finish()
-        self.assertEqual((solver.unknown(), solver.answer("a")), (["a"], ~step(GIVEN["g"])))
+        twin = solver.twin()
+        for one in (solver, twin):
+            one.finish()
+            self.assertEqual((one.unknown(), one.answer("a")), (["a"], ~step(GIVEN["g"])))
 
 
 def solver_done():

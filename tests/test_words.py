@@ -29,6 +29,9 @@ class NamesTest(unittest.TestCase):
         for value in ANY_VALUES + ["abcdefg", "A", "aB", "a1", "a ", " a", "a-b", "a\n", ["a"], ("a",), "~", "`", "{"]:
             self.assertIs(is_name(value), value == "x", value)
         self.assertIs(is_name(value="q"), True)
+        for code in range(256):
+            for value in (chr(code), f"a{chr(code)}", f"{chr(code)}bcde"):
+                self.assertIs(is_name(value), "a" <= chr(code) <= "z")
 
 
 class WordTest(unittest.TestCase):
